@@ -1,0 +1,158 @@
+"""The form of the package's files: the rules of ../shared/LANGUAGE.md that can be seen in the text of a file."""
+
+import ast
+import builtins
+import pathlib
+import re
+import unittest
+
+PACKAGE = pathlib.Path(__file__).resolve().parent.parent / "wardsmith"
+
+# L8, with L27: no chr.
+OWN_NAMES = """len range enumerate zip min max sum abs sorted reversed int str bool list tuple dict set frozenset
+isinstance ord repr any all divmod Exception ValueError TypeError KeyError IndexError LookupError ZeroDivisionError
+ArithmeticError OverflowError RuntimeError NotImplementedError AttributeError StopIteration""".split()
+
+# L25.
+OWN_METHODS = """append clear copy count endswith extend find get index insert isalnum isalpha isdigit islower isspace
+isupper items join keys ljust lower lstrip partition pop remove replace reverse rfind rjust rpartition rsplit rstrip
+setdefault split splitlines startswith strip update upper values zfill bit_length""".split()
+
+DOUBLE_METHODS = ["__init__", "__eq__", "__repr__", "__str__", "__len__"]
+
+# L17.
+WORDS_NOWHERE = """type typing typing_extensions enum Enum IntEnum StrEnum Flag IntFlag Generic Protocol ABC ABCMeta
+namedtuple NamedTuple TypedDict TYPE_CHECKING abstractmethod""".split()
+NAMES_NOWHERE = """register mro elements open input version_info with_traceback add_note format format_map getattr
+setattr hasattr delattr super vars eval exec globals locals sys os""".split()
+
+# L6 and L7.
+NODES = """Module FunctionDef ClassDef Return Assign AugAssign For While If Raise Try ExceptHandler ImportFrom alias Expr
+Pass Break Continue BoolOp BinOp UnaryOp Lambda IfExp Dict Set ListComp comprehension Compare Call JoinedStr
+FormattedValue Constant Attribute Subscript Name List Tuple Slice Load Store And Or Add Sub Mult Mod Pow LShift RShift
+BitOr BitXor BitAnd FloorDiv Invert Not UAdd USub Eq NotEq Lt LtE Gt GtE Is IsNot In NotIn arguments arg keyword""".split()
+
+
+def files():
+    return sorted(path for path in PACKAGE.iterdir() if path.name != "__pycache__")
+
+
+def bound_names(tree):
+    for node in ast.walk(tree):
+        if isinstance(node, (ast.FunctionDef, ast.ClassDef)):
+            yield node.name
+        elif isinstance(node, ast.arg):
+            yield node.arg
+        elif isinstance(node, ast.Name) and isinstance(node.ctx, ast.Store):
+            yield node.id
+        elif isinstance(node, ast.ExceptHandler) and node.name:
+            yield node.name
+
+
+def methods_of_own_values():
+    return {name for kind in (str, int, list, dict, tuple, set, bytes) for name in dir(kind)}
+
+
+def each_tree():
+    return [(path, ast.parse(path.read_text(encoding="ascii"))) for path in files()]
+
+
+def each_node():
+    for path, tree in each_tree():
+        for node in ast.walk(tree):
+            yield f"{path.name}, line {getattr(node, 'lineno', 0)}", node
+
+
+class Form(unittest.TestCase):
+    def test_files_and_signs(self):
+        self.assertTrue((PACKAGE / "__init__.py").is_file())
+        for path in files():
+            with self.subTest(path.name):
+                self.assertRegex(path.name, r"^[a-z0-9_]+\.py$")
+                text = path.read_bytes().decode("ascii")
+                self.assertEqual([sign for sign in text if sign != "\n" and not " " <= sign <= "~"], [])
+                self.assertLessEqual(len(text.splitlines()), 400)
+                self.assertLessEqual(max([len(row) for row in text.splitlines()], default=0), 120)
+
+    def test_words_that_stand_nowhere(self):
+        for path in files():
+            with self.subTest(path.name):
+                text = path.read_text(encoding="ascii")
+                words = set(re.findall(r"\w+", text))
+                self.assertEqual(sorted(words & set(WORDS_NOWHERE)), [])
+                self.assertIsNone(re.search("dataclass|overload|contextmanager", text))
+
+    def test_statements_and_expressions(self):
+        for where, node in each_node():
+            self.assertIn(type(node).__name__, NODES, where)
+            if isinstance(node, ast.FunctionDef):
+                self.assertLessEqual(node.end_lineno - node.lineno + 1, 40, where)
+                self.assertIsNone(node.args.vararg or node.args.kwarg, where)
+                self.assertEqual(node.args.kwonlyargs + node.decorator_list, [], where)
+            if isinstance(node, ast.ClassDef):
+                self.assertLessEqual(len(node.bases), 1, where)
+                self.assertEqual(node.keywords + node.decorator_list, [], where)
+            if isinstance(node, (ast.For, ast.While)):
+                self.assertEqual(node.orelse, [], where)
+            if isinstance(node, ast.Try):
+                self.assertEqual(node.finalbody, [], where)
+            if isinstance(node, ast.Assign):
+                self.assertEqual(len(node.targets), 1, where)
+
+    def test_constants(self):
+        for where, node in each_node():
+            if isinstance(node, ast.Constant):
+                self.assertIn(type(node.value), (int, str, bool, type(None)), where)
+                self.assertNotIn("%", str(node.value), where)
+            if isinstance(node, ast.BinOp) and isinstance(node.op, ast.Pow):
+                self.assertIsInstance(node.right, ast.Constant, where)
+            if isinstance(node, ast.Compare) and isinstance(node.ops[0], (ast.Is, ast.IsNot)):
+                self.assertIn(ast.unparse(node.comparators[0]), ("None", "True", "False"), where)
+
+    def test_imports(self):
+        for path, tree in each_tree():
+            for node in [node for node in ast.walk(tree) if isinstance(node, ast.ImportFrom)]:
+                self.assertIn(node, tree.body, path.name)
+                self.assertEqual(node.level, 0, path.name)
+                self.assertRegex(node.module, r"^wardsmith\.[a-z0-9_]+$", path.name)
+                drawn = ast.parse((PACKAGE / (node.module.split(".")[1] + ".py")).read_text(encoding="ascii"))
+                for name in node.names:
+                    self.assertIsNone(name.asname, path.name)
+                    self.assertIn(name.name, list(bound_names(drawn)), path.name)
+
+    def test_no_two_files_draw_from_one_another(self):
+        draws = {path.stem: {node.module.split(".")[1] for node in ast.walk(tree) if isinstance(node, ast.ImportFrom)}
+                 for path, tree in each_tree()}
+        while draws:
+            free = [name for name in draws if not draws[name] & set(draws)]
+            self.assertNotEqual(free, [], draws)
+            draws = {name: drawn for name, drawn in draws.items() if name not in free}
+
+    def test_bound_names(self):
+        for path, tree in each_tree():
+            for name in bound_names(tree):
+                if name not in DOUBLE_METHODS:
+                    self.assertRegex(name, r"^[A-Za-z][A-Za-z0-9_]*$", path.name)
+                    self.assertNotIn(name, NAMES_NOWHERE, path.name)
+
+    def test_names_of_pythons_own(self):
+        for where, node in each_node():
+            if isinstance(node, ast.Name):
+                self.assertNotIn(node.id, NAMES_NOWHERE, where)
+                if hasattr(builtins, node.id):
+                    self.assertIn(node.id, OWN_NAMES, where)
+                    self.assertIsInstance(node.ctx, ast.Load, where)
+            if isinstance(node, ast.arg):
+                self.assertFalse(hasattr(builtins, node.arg), where)
+
+    def test_methods(self):
+        taken = methods_of_own_values()
+        for where, node in each_node():
+            if isinstance(node, ast.Attribute):
+                self.assertNotIn(node.attr, NAMES_NOWHERE, where)
+                if node.attr in taken and node.attr not in DOUBLE_METHODS:
+                    self.assertIn(node.attr, OWN_METHODS, where)
+
+
+if __name__ == "__main__":
+    unittest.main()
