@@ -2,7 +2,7 @@ import copy
 import itertools
 import unittest
 
-from tests.things import NO_NUMBERS, NO_TEXTS
+from tests.things import NO_NUMBERS, NO_TEXTS, all_cuts
 from wardsmith.cuts import can_file, first_cuts, is_cuts, next_cuts, read_cuts, shown_cuts
 from wardsmith.errors import NoCuts
 
@@ -11,13 +11,6 @@ RULES = (3, 6, 2, 3)
 SMALL_RULES = [(1, 2, 1, 1), (1, 5, 1, 1), (1, 5, 5, 4), (2, 2, 1, 1), (2, 4, 2, 1), (2, 4, 2, 2), (2, 4, 2, 3),
                (3, 2, 2, 1), (3, 4, 1, 1), (3, 4, 1, 2), (3, 4, 1, 3), (3, 6, 2, 3), (4, 3, 1, 1), (4, 5, 1, 2),
                (5, 3, 1, 1), (5, 3, 1, 2)]
-
-
-# Told anew from the document, by looking at all tuples there are.
-def all_cuts(rules):
-    places, depths, _, step = rules
-    return [one for one in itertools.product(range(depths), repeat=places)
-            if all(abs(one[place] - one[place + 1]) <= step for place in range(places - 1))]
 
 
 class IsCuts(unittest.TestCase):

@@ -32,6 +32,10 @@ Pass Break Continue BoolOp BinOp UnaryOp Lambda IfExp Dict Set ListComp comprehe
 FormattedValue Constant Attribute Subscript Name List Tuple Slice Load Store And Or Add Sub Mult Mod Pow LShift RShift
 BitOr BitXor BitAnd FloorDiv Invert Not UAdd USub Eq NotEq Lt LtE Gt GtE Is IsNot In NotIn arguments arg keyword""".split()
 
+# L23.
+WALKED_AT_ONCE = "zip enumerate reversed range items keys values".split()
+WALKERS = "list tuple dict sorted sum any all enumerate zip min max".split()
+
 
 def files():
     return sorted(path for path in PACKAGE.iterdir() if path.name != "__pycache__")
@@ -61,6 +65,33 @@ def each_node():
     for path, tree in each_tree():
         for node in ast.walk(tree):
             yield f"{path.name}, line {getattr(node, 'lineno', 0)}", node
+
+
+# Each node with the one that it stands in.
+def each_pair():
+    for where, node in each_node():
+        for inner in ast.iter_child_nodes(node):
+            yield where, node, inner
+
+
+def top_names(node):
+    if isinstance(node, ast.ImportFrom):
+        return [name.name for name in node.names]
+    if isinstance(node, ast.Assign):
+        return [target.id for target in node.targets]
+    return [node.name] if isinstance(node, (ast.FunctionDef, ast.ClassDef)) else []
+
+
+def called_name(node):
+    if not isinstance(node, ast.Call):
+        return None
+    return node.func.id if isinstance(node.func, ast.Name) else getattr(node.func, "attr", None)
+
+
+def is_walked(outer, inner):
+    if isinstance(outer, (ast.For, ast.comprehension)):
+        return outer.iter is inner
+    return called_name(outer) in WALKERS and outer.args[0] is inner or called_name(outer) == "zip"
 
 
 class Form(unittest.TestCase):
@@ -152,6 +183,36 @@ class Form(unittest.TestCase):
                 self.assertNotIn(node.attr, NAMES_NOWHERE, where)
                 if node.attr in taken and node.attr not in DOUBLE_METHODS:
                     self.assertIn(node.attr, OWN_METHODS, where)
+
+    def test_sets_are_asked_on_the_spot(self):
+        for where, outer, inner in each_pair():
+            if called_name(inner) in ("set", "frozenset") or isinstance(inner, ast.Set):
+                spot = isinstance(outer, (ast.Compare, ast.BinOp)) or called_name(outer) in ("sorted", "len")
+                self.assertTrue(spot, where)
+
+    def test_what_is_walked_at_once(self):
+        for where, outer, inner in each_pair():
+            if called_name(inner) in WALKED_AT_ONCE:
+                self.assertTrue(is_walked(outer, inner), where)
+
+    def test_comprehensions(self):
+        for where, node in each_node():
+            if isinstance(node, ast.ListComp):
+                self.assertEqual(len(node.generators), 1, where)
+                self.assertLessEqual(len(node.generators[0].ifs), 1, where)
+
+    def test_names_within_functions_are_no_names_of_classes_or_imports(self):
+        for path, tree in each_tree():
+            taken = [name.name for node in tree.body if isinstance(node, ast.ImportFrom) for name in node.names]
+            taken += [node.name for node in tree.body if isinstance(node, ast.ClassDef)]
+            for function in [node for node in ast.walk(tree) if isinstance(node, ast.FunctionDef)]:
+                inside = [name for part in [function.args] + function.body for name in bound_names(part)]
+                self.assertEqual([name for name in inside if name in taken], [], f"{path.name}, {function.name}")
+
+    def test_names_of_the_top_are_bound_once(self):
+        for path, tree in each_tree():
+            bound = [name for node in tree.body for name in top_names(node)]
+            self.assertEqual(sorted(bound), sorted(set(bound)), path.name)
 
 
 if __name__ == "__main__":

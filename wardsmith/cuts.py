@@ -10,11 +10,15 @@ def is_cuts(rules, thing):
         return False
     if not all([is_depth(rules, cut) for cut in thing]):
         return False
-    return all([abs(cut - before) <= step_of(rules) for before, cut in zip(thing, thing[1:])])
+    return all([are_near(rules, before, cut) for before, cut in zip(thing, thing[1:])])
 
 
 def is_depth(rules, thing):
     return is_whole(thing) and 0 <= thing < depths_of(rules)
+
+
+def are_near(rules, depth, beside):
+    return abs(depth - beside) <= step_of(rules)
 
 
 def read_cuts(rules, text):
