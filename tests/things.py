@@ -1,6 +1,12 @@
-"""What several tests need: wrong inputs, and cuts and barrels told anew from the document by walking all there are."""
+"""What several tests need: wrong inputs; cuts, barrels and plans told anew from the document by walking all there are;
+a test case that asks the program and looks at what was handed in."""
 
+import copy
 import itertools
+import unittest
+
+from wardsmith.errors import SmithError
+from wardsmith.houses import House
 
 NO_TEXTS = [None, True, False, 0, 1, -3, 2.5, b"", b"1 2 1 1", b"0", [], ["0"], ["1", "2", "1", "1"], ("0",),
             (), (1, 2, 1, 1), (0,), {}, {"0": 0}, {"0"}, set(), object(), str, len]
@@ -25,3 +31,77 @@ def all_barrels(rules):
 
 def fits(barrel, one):
     return all(cut in pin for pin, cut in zip(barrel, one, strict=True))
+
+
+def house_of(rules, doors, **grants):
+    return House(rules, doors.split(), [], [(name, opened.split()) for name, opened in grants.items()])
+
+
+# All houses without wings, of so many doors and keys: each key opens one door or more.
+def all_houses(rules, doors, keys):
+    doors = "abcdefgh"[:doors]
+    spans = [list(span) for many in range(1, len(doors) + 1) for span in itertools.combinations(doors, many)]
+    for opened in itertools.product(spans, repeat=keys):
+        yield House(rules, list(doors), [], list(zip("tuvwxyz"[:keys], opened)))
+
+
+# Of houses of which no key opens a wing.
+def owners(house, door):
+    return [name for name, opened in house.grants if door in opened]
+
+
+def all_plans(house):
+    names = [name for name, _ in house.grants]
+    for given in itertools.product(all_cuts(house.rules), repeat=len(names)):
+        yield dict(zip(names, given))
+
+
+# ("steep", (door, place)), ("open", (door, key, cross)) or ("good", None), of the keys that have cuts.
+def word_of(house, plan):
+    own = {door: [name for name in owners(house, door) if name in plan] for door in house.doors}
+    for door in house.doors:
+        for place in range(house.rules[0]):
+            if len({plan[name][place] for name in own[door]}) > house.rules[2]:
+                return ("steep", (door, place))
+    for door in house.doors:
+        for key in [name for name, _ in house.grants if name in plan and name not in owners(house, door)]:
+            alike = [[name for name in own[door] if plan[name][place] == cut] for place, cut in enumerate(plan[key])]
+            if all(alike):
+                return ("open", (door, key, [names[0] for names in alike]))
+    return ("good", None)
+
+
+def shown_all(things):
+    return copy.deepcopy([vars(thing) if isinstance(thing, House) else thing for thing in things])
+
+
+# Takes out all that can be taken out.
+def spoil(thing):
+    if isinstance(thing, (list, tuple)):
+        for part in thing:
+            spoil(part)
+    if isinstance(thing, dict):
+        spoil(list(thing.values()))
+    if isinstance(thing, (list, dict)):
+        thing.clear()
+
+
+class Asker(unittest.TestCase):
+    def assert_told(self, told, ask, *handed):
+        before = shown_all(handed)
+        with self.subTest(repr(before)):
+            answer = ask(*handed)
+            self.assertEqual(repr(answer), repr(told))
+            self.assertEqual(shown_all(handed), before)
+            spoil(answer)
+            self.assertEqual(shown_all(handed), before)
+            self.assertEqual(ask(*handed), told)
+
+    def assert_refused(self, kind, fields, ask, *handed):
+        before = shown_all(handed)
+        with self.subTest(repr(before)):
+            with self.assertRaises(SmithError) as taken:
+                ask(*handed)
+            self.assertIs(type(taken.exception), kind)
+            self.assertEqual(vars(taken.exception), fields)
+            self.assertEqual(shown_all(handed), before)

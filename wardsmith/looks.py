@@ -77,4 +77,9 @@ def doors_of(house, name):
 
 
 def holders(house, door):
-    return [name for name in names_of(house.grants) if door in doors_of(house, name)]
+    return [name for name, doors in spans_of(house).items() if door in doors]
+
+
+# Each key with its doors, in the order of the house's keys.
+def spans_of(house):
+    return dict([(name, doors_of(house, name)) for name in names_of(house.grants)])
