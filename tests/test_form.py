@@ -32,6 +32,10 @@ Pass Break Continue BoolOp BinOp UnaryOp Lambda IfExp Dict Set ListComp comprehe
 FormattedValue Constant Attribute Subscript Name List Tuple Slice Load Store And Or Add Sub Mult Mod Pow LShift RShift
 BitOr BitXor BitAnd FloorDiv Invert Not UAdd USub Eq NotEq Lt LtE Gt GtE Is IsNot In NotIn arguments arg keyword""".split()
 
+# L26.
+FREE_VALUES = "count index title find get join lower upper split strip copy add".split()
+FREE_METHODS = OWN_METHODS + ["add", "discard"]
+
 # L23.
 WALKED_AT_ONCE = "zip enumerate reversed range items keys values".split()
 WALKERS = "list tuple dict sorted sum any all enumerate zip min max".split()
@@ -72,6 +76,28 @@ def each_pair():
     for where, node in each_node():
         for inner in ast.iter_child_nodes(node):
             yield where, node, inner
+
+
+def each_class():
+    for path, tree in each_tree():
+        for node in [node for node in tree.body if isinstance(node, ast.ClassDef)]:
+            yield path.name, node
+
+
+def methods_in(node):
+    return [inner.name for inner in node.body if isinstance(inner, ast.FunctionDef)]
+
+
+def values_in(node):
+    return [inner.attr for inner in ast.walk(node) if isinstance(inner, ast.Attribute) and isinstance(inner.ctx, ast.Store)]
+
+
+# Whether a class's name stands where L18 lets it stand.
+def may_name_a_class(outer, inner):
+    if isinstance(outer, ast.Call):
+        return outer.func is inner or called_name(outer) == "isinstance" and outer.args[1] is inner
+    # A base's __init__ is called by the base's name (L28).
+    return isinstance(outer, (ast.ClassDef, ast.ExceptHandler)) or getattr(outer, "attr", None) == "__init__"
 
 
 def top_names(node):
@@ -200,6 +226,44 @@ class Form(unittest.TestCase):
             if isinstance(node, ast.ListComp):
                 self.assertEqual(len(node.generators), 1, where)
                 self.assertLessEqual(len(node.generators[0].ifs), 1, where)
+
+    def test_f_strings_hold_plain_names(self):
+        for where, node in each_node():
+            if isinstance(node, ast.FormattedValue):
+                self.assertIsInstance(node.value, ast.Name, where)
+                self.assertIsNone(node.format_spec, where)
+
+    def test_lists_and_dicts_of_the_top_hold_no_others(self):
+        for path, tree in each_tree():
+            for node in [node.value for node in tree.body if isinstance(node, ast.Assign)]:
+                inner = [part for part in ast.walk(node) if isinstance(part, (ast.List, ast.Dict)) and part is not node]
+                self.assertEqual(inner, [], path.name)
+
+    def test_values_and_methods_of_classes(self):
+        taken = methods_of_own_values()
+        methods = [name for _, node in each_class() for name in methods_in(node) if name not in DOUBLE_METHODS]
+        values = [name for _, node in each_class() for name in values_in(node)]
+        self.assertEqual([name for name in methods if name in taken and name not in FREE_METHODS], [])
+        self.assertEqual([name for name in values if name in taken and name not in FREE_VALUES], [])
+        self.assertNotIn("args", values)
+        self.assertEqual(sorted(set(methods) & set(values)), [])
+        for where, node in each_class():
+            self.assertEqual(sorted(methods_in(node)), sorted(set(methods_in(node))), where)
+            self.assertEqual([inner for inner in node.body if not isinstance(inner, (ast.FunctionDef, ast.Pass))], [], where)
+
+    def test_where_classes_stand(self):
+        classes = [node.name for _, node in each_class()]
+        for where, outer, inner in each_pair():
+            if isinstance(inner, ast.Name) and inner.id in classes:
+                self.assertTrue(may_name_a_class(outer, inner), where)
+
+    def test_errors_are_taken_by_name(self):
+        for where, node in each_node():
+            if isinstance(node, ast.ExceptHandler):
+                self.assertIsInstance(node.type, ast.Name, where)
+                self.assertFalse(hasattr(builtins, node.type.id), where)
+            if isinstance(node, ast.Raise):
+                self.assertIsInstance(node.exc, ast.Call, where)
 
     def test_names_within_functions_are_no_names_of_classes_or_imports(self):
         for path, tree in each_tree():

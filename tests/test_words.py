@@ -2,7 +2,7 @@ import copy
 import unittest
 
 from tests.things import NO_NUMBERS, NO_TEXTS
-from wardsmith.words import is_name, is_whole, is_written, numbers_in
+from wardsmith.words import is_name, is_whole, is_written, number_in, numbers_in
 
 LETTERS = "abcdefghijklmnopqrstuvwxyz"
 
@@ -71,17 +71,30 @@ class Names(unittest.TestCase):
 class Written(unittest.TestCase):
     def test_all_written_numbers(self):
         for number in range(1000):
-            self.assertIs(is_written(str(number)), True, number)
+            self.assertIs(is_written(str(number), 3), True, number)
 
     def test_others(self):
         for text in NO_NUMBERS:
             with self.subTest(repr(text)):
-                self.assertIs(is_written(text), False)
+                self.assertIs(is_written(text, 3), False)
 
     def test_no_other_sign_is_a_figure(self):
         for sign in [chr(code) for code in range(0x500) if chr(code) not in "0123456789"]:
-            self.assertIs(is_written(sign), False, repr(sign))
-            self.assertIs(is_written("1" + sign), False, repr(sign))
+            self.assertIs(is_written(sign, 3), False, repr(sign))
+            self.assertIs(is_written("1" + sign, 3), False, repr(sign))
+
+
+class Number(unittest.TestCase):
+    def test_as_many_figures_as_are_told(self):
+        for most in [1, 3, 4, 60]:
+            for figures in ["9" * most, "1" + "0" * (most - 1), "0"]:
+                self.assertEqual(number_in(figures, most), int(figures))
+            self.assertIsNone(number_in("1" + "0" * most, most))
+
+    def test_what_is_no_number(self):
+        for text in [text for text in NO_NUMBERS if text not in ["1000", "9999"]]:
+            with self.subTest(repr(text)):
+                self.assertIsNone(number_in(text, 60))
 
 
 class Numbers(unittest.TestCase):

@@ -33,6 +33,11 @@ def fits(barrel, one):
     return all(cut in pin for pin, cut in zip(barrel, one, strict=True))
 
 
+# Of one cuts or more, whatever the heights; None of none.
+def least(some):
+    return tuple(tuple(sorted(set(cuts))) for cuts in zip(*some)) if some else None
+
+
 def house_of(rules, doors, **grants):
     return House(rules, doors.split(), [], [(name, opened.split()) for name, opened in grants.items()])
 
@@ -69,6 +74,49 @@ def word_of(house, plan):
             if all(alike):
                 return ("open", (door, key, [names[0] for names in alike]))
     return ("good", None)
+
+
+# Of houses of which no key opens a wing, as are the two below.
+def walked_loss(house, plan, names):
+    kept = {door: [name for name in owners(house, door) if name not in names] for door in house.doors}
+    for door in house.doors:
+        for key in [name for name, _ in house.grants if name in names]:
+            alike = [[name for name in kept[door] if plan[name][place] == cut] for place, cut in enumerate(plan[key])]
+            if all(alike):
+                return ("stray", door, key, [others[0] for others in alike])
+    return ("pinned", {door: least([plan[name] for name in kept[door]]) for door in house.doors
+                       if kept[door] != owners(house, door)})
+
+
+def is_such(house, plan, name, one):
+    anew = plan | {name: one}
+    barrels = [least([anew[holder] for holder in owners(house, door)]) for door in house.doors]
+    return word_of(house, anew)[0] == "good" and not any(barrel and fits(barrel, plan[name]) for barrel in barrels)
+
+
+def walked_anew(house, plan, name, most):
+    for looked, one in enumerate(all_cuts(house.rules)):
+        if looked == most:
+            return ("more", None)
+        if is_such(house, plan, name, one):
+            return ("cuts", one)
+    return ("none", None)
+
+
+# A house, a right plan, and the cuts with so many less 1 ahead: read as binary numbers, all those ahead open other doors
+# than the key k's, one such door for each figure 1.
+def first_free_at(needed):
+    figures = [int(figure) for figure in "0" + format(needed - 1, "b")]
+    places = len(figures)
+    house = House((places, 2, 2, 1), ["a"], [], [("k", ["a"])])
+    plan = {"k": (1,) * places}
+    for place in [place for place, figure in enumerate(figures) if figure == 1]:
+        letter = "abcdefghijkl"[place]
+        house.doors.append("d" + letter)
+        for name, rest in [("l" + letter, 0), ("m" + letter, 1)]:
+            house.grants.append((name, ["d" + letter]))
+            plan[name] = tuple(figures[:place]) + (0,) + (rest,) * (places - place - 1)
+    return house, plan, tuple(figures)
 
 
 def shown_all(things):

@@ -45,7 +45,7 @@ def fault_in(held, barrels, keys, plan):
     for door, barrel in barrels.items():
         for key in keys:
             if barrel is not None and key not in held[door] and opens_at(barrel, plan[key]):
-                return (door, key, named_cross([name for name in keys if name in held[door]], key, plan))
+                return (door, key, named_cross([name for name in held[door] if name in plan], key, plan))
     return None
 
 

@@ -24,6 +24,10 @@ def step_of(rules):
     return rules[3]
 
 
+def is_place(rules, thing):
+    return is_whole(thing) and 0 <= thing < places_of(rules)
+
+
 def is_rules(thing):
     if not isinstance(thing, tuple) or len(thing) != 4:
         return False

@@ -22,10 +22,15 @@ def has_only(text, signs):
 
 
 # int() alone would also take signs, blanks, line ends and the figures of other scripts.
-def is_written(text):
-    if not 1 <= len(text) <= MOST_FIGURES or not has_only(text, FIGURES):
+def is_written(text, most):
+    if not 1 <= len(text) <= most or not has_only(text, FIGURES):
         return False
     return text == "0" or text[0] != "0"
+
+
+# None where the text is no number that is written with at most so many figures.
+def number_in(text, most):
+    return int(text) if is_written(text, most) else None
 
 
 # None where the thing is no text, or a part of it is no written number.
@@ -33,6 +38,6 @@ def numbers_in(thing, mark):
     if not isinstance(thing, str):
         return None
     parts = thing.split(mark)
-    if not all([is_written(part) for part in parts]):
+    if not all([is_written(part, MOST_FIGURES) for part in parts]):
         return None
     return tuple([int(part) for part in parts])
